@@ -1,0 +1,1 @@
+"""Keyorders: orders told by rows of keys."""

@@ -119,6 +119,26 @@ def some_lists():
 LISTS = some_lists()
 
 
+# Any things to ask of, of which few are what is asked.
+ODD = (None, True, False, 0, 1, 2, 3, 4, 5, 6, -1, 7, 10 ** 20, "", "up", "down", "table", "0", "1", (), [], (0,), [0],
+       (1, 2), (2, 1), [1, 2], (1, 1), (0, True), (0, 6), (0, -1), (0, 1, 2, 3), (3, 2, 1, 0), (0, 1, 2, 3, 4),
+       (0, "1"), (None,), ((1,),), [[1]], ("up", 0), ("down", ("up", 0)), ["up", 0], ((((("up", 0),),),),))
+
+
+def spoilt(whole):
+    """The tuple with one part left out, said twice, exchanged for another or for an odd thing, or as a list."""
+    found = [whole, list(whole), whole[::-1], whole + whole, (whole,), [whole]]
+    for at, part in enumerate(whole):
+        found += [whole[:at] + whole[at + 1:], whole[:at] + (part,) + whole[at:]]
+        found += [whole[:at] + (odd,) + whole[at + 1:] for odd in ODD]
+        found += [whole[:at] + (odd,) + whole[at:] for odd in ODD]
+        if isinstance(part, tuple):
+            found += [whole[:at] + (other,) + whole[at + 1:] for other in spoilt(part)]
+    found += [whole + (odd,) for odd in ODD]
+    found += [tuple(parts) for parts in itertools.permutations(whole)]
+    return found
+
+
 def is_of_told_kinds(value):
     """Whether a value is made of tuples, texts, whole numbers, truths and None only."""
     if isinstance(value, tuple):

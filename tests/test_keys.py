@@ -5,29 +5,12 @@ import itertools
 import unittest
 
 from keyorders.keys import all_things, is_key, is_row, is_thing, told, turned, worths
-from tests.helper import (KEYS, LISTS, PAIRS, PLAIN_KEYS, ROWS, THINGS, is_of_told_kinds, plain_is_key, plain_is_row,
-                          plain_is_thing, plain_told, plain_worth)
+from tests.helper import (KEYS, LISTS, ODD, PAIRS, PLAIN_KEYS, ROWS, THINGS, is_of_told_kinds, plain_is_key,
+                          plain_is_row, plain_is_thing, plain_told, plain_worth, spoilt)
 
-ODD = (None, True, False, 0, 1, 2, 3, 4, 5, 6, -1, 7, 10 ** 20, "", "up", "down", "table", "0", "1", (), [], (0,), [0],
-       (1, 2), (2, 1), [1, 2], (1, 1), (0, True), (0, 6), (0, -1), (0, 1, 2, 3), (3, 2, 1, 0), (0, 1, 2, 3, 4),
-       (0, "1"), (None,), ((1,),), [[1]], ("up", 0), ("down", ("up", 0)), ["up", 0], ((((("up", 0),),),),))
 SAMPLE_KEYS = (("up", 0), ("up", 2), ("part", 1, 2), ("part", 0, 3), ("rest", 2, 2), ("rest", 0, 3),
                ("table", 0, (1, 0)), ("table", 2, (5, 4, 3, 2)), ("table", 1, (0,)), ("among", 0, (0, 1)),
                ("among", 2, (1, 2, 4, 5)), ("among", 1, (3,)), ("sum", 0, 1), ("gap", 0, 2), ("most", 1, 2))
-
-
-def spoilt(whole):
-    """The tuple with one part left out, said twice, exchanged for another or for an odd thing, or as a list."""
-    found = [whole, list(whole), whole[::-1], whole + whole, (whole,), [whole]]
-    for at, part in enumerate(whole):
-        found += [whole[:at] + whole[at + 1:], whole[:at] + (part,) + whole[at:]]
-        found += [whole[:at] + (odd,) + whole[at + 1:] for odd in ODD]
-        found += [whole[:at] + (odd,) + whole[at:] for odd in ODD]
-        if isinstance(part, tuple):
-            found += [whole[:at] + (other,) + whole[at + 1:] for other in spoilt(part)]
-    found += [whole + (odd,) for odd in ODD]
-    found += [tuple(parts) for parts in itertools.permutations(whole)]
-    return found
 
 
 class WhichThingsAreWhat(unittest.TestCase):

@@ -1,4 +1,4 @@
-"""Some rules of the language that are easily broken unseen: L1, L2, L10, L12, L14, L15, L17, L20."""
+"""Some rules of the language that are easily broken unseen: L1, L2, L10, L12, L14, L15, L17, L18, L20."""
 
 import ast
 import builtins
@@ -58,3 +58,13 @@ class Language(unittest.TestCase):
             for node in nodes(path):
                 if isinstance(node, ast.Compare) and any(isinstance(op, (ast.Is, ast.IsNot)) for op in node.ops):
                     self.assertIn(ast.unparse(node.comparators[-1]), ("None", "True", "False"), path)
+
+    def test_no_name_is_both_a_method_and_an_attribute(self):
+        methods, attributes = set(), set()
+        for node in [node for path in FILES for node in nodes(path)]:
+            if isinstance(node, ast.ClassDef):
+                methods |= {part.name for part in node.body if isinstance(part, ast.FunctionDef)}
+            if isinstance(node, ast.Attribute) and isinstance(node.ctx, ast.Store):
+                attributes.add(node.attr)
+        self.assertEqual(methods & attributes, set())
+        self.assertEqual(attributes & set(dir(str) + dir(int) + dir(list) + dir(dict) + dir(set) + dir(bytes)), set())

@@ -117,7 +117,7 @@ class Rings(unittest.TestCase):
             self.assertEqual(ring(pairs), least, pairs)
 
     def test_choices(self):
-        for pairs in CHOICES[::2] + some_choices()[-4:]:
+        for pairs in CHOICES:
             self.assertEqual(ring(pairs), min(plain_rings(pairs), default=None), pairs)
 
 

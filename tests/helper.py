@@ -81,6 +81,11 @@ def plain_all_told(row):
     return tuple((told_of[one] > told_of[other]) - (told_of[one] < told_of[other]) for one, other in PAIRS)
 
 
+def plain_form(row):
+    kinds = sorted({tuple(plain_worth(key, thing) for key in row) for thing in THINGS})
+    return tuple(kinds.index(tuple(plain_worth(key, thing) for key in row)) for thing in THINGS)
+
+
 UPS = (("up", 0), ("up", 1), ("up", 2))
 ROWS = (
     (),

@@ -16,6 +16,10 @@ ARGUMENTS = {
     "pairs": {"closed": 1, "ring": 1, "bare": 1, "orders": 2, "least_order": 2, "levels": 2, "free_pairs": 2},
     "learning": {"plain_keys": 0, "agreeing": 1, "told_by": 1, "unlike_rows": 1},
     "shelves": {"Shelf": 1},
+    "papers": {"paper": 2, "is_paper": 3, "fewest": 1},
+    "nesting": {"nested": 4, "merged_all": 2},
+    "fronts": {"beats": 3, "front": 2, "layers": 2, "agreed": 2},
+    "texts": {"row_text": 1, "read_row": 1},
 }
 SHELF_METHODS = {"things": 0, "row": 0, "put": 1, "take": 1, "order": 1, "around": 1, "between": 2, "back": 0,
                  "forth": 0}

@@ -6,7 +6,7 @@ import unittest
 from keyorders.judging import (alike, classes, deciders, form, is_whole_order, keeps, needless, parting, short, silent,
                                tie, ties_of, unkept)
 from keyorders.keys import told, turned
-from tests.helper import PAIRS, ROWS, THINGS, UPS, is_of_told_kinds, plain_all_told, plain_worth
+from tests.helper import PAIRS, ROWS, THINGS, UPS, is_of_told_kinds, plain_all_told, plain_form, plain_worth
 
 TOLD = {row: plain_all_told(row) for row in ROWS}
 ROW_PAIRS = tuple(itertools.product(ROWS, repeat=2))
@@ -15,11 +15,6 @@ ROW_PAIRS = tuple(itertools.product(ROWS, repeat=2))
 def least(wanted):
     """The first pair of which it is wanted; PAIRS stand rising, the lesser first."""
     return next((pair for pair, is_wanted in zip(PAIRS, wanted) if is_wanted), None)
-
-
-def plain_form(row):
-    kinds = sorted({tuple(plain_worth(key, thing) for key in row) for thing in THINGS})
-    return tuple(kinds.index(tuple(plain_worth(key, thing) for key in row)) for thing in THINGS)
 
 
 def left_out(row, at):
